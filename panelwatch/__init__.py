@@ -1,0 +1,1 @@
+"""Panelwatch: a room that watches far works, and what it may command."""
