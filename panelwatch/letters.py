@@ -1,8 +1,8 @@
 """Letters between places and rooms: what is one, and the signs that they bear."""
 
-from panelwatch.errors import NoLetter, NoList, NoPoint, Unlike
+from panelwatch.errors import NoLetter, NoList, Unlike
 from panelwatch.words import is_id, is_list, is_mark, is_one_of, is_term, is_time, is_tuple, is_whole
-from panelwatch.works import check_works
+from panelwatch.works import check_point, check_works
 
 _MOST_LETTERS = 40
 _MOST_SIGNS = 12
@@ -73,13 +73,18 @@ def _is_answer(works, thing):
 
 def rows_of(works, letter, point):
     """Tell the tuples (time, worth, mark) of a point in a letter with signs, in order."""
-    _check_signs(works, letter)
-    if not works.has_point(point):
-        raise NoPoint(point)
+    check_signs(works, letter)
+    check_point(works, point)
+    return rows_in(letter, point)
+
+
+def rows_in(letter, point):
+    """Tell the rows of a point in what was found to be a letter with signs."""
     return [(time, worth, mark) for time, name, worth, mark in letter[4] if name == point]
 
 
-def _check_signs(works, letter):
+def check_signs(works, letter):
+    """Refuse what is no letter with signs."""
     if not is_signs(works, letter):
         raise NoLetter(letter)
 
@@ -90,7 +95,7 @@ def in_order(works, letters):
     if not is_list(letters, 0, _MOST_IN_LIST):
         raise NoList(letters)
     for letter in letters:
-        _check_signs(works, letter)
+        check_signs(works, letter)
     ahead = {}
     for letter in letters:
         _, place, number, _, _ = letter

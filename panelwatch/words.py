@@ -1,6 +1,6 @@
 """The kinds of things that are handed in and told, and what plain texts write."""
 
-from panelwatch.errors import NoNumber, NoRoom, NoTerm, TooMany
+from panelwatch.errors import NoNumber, NoRoom, NoTerm, NoTime, NoTruth, TooMany
 
 MOST_TIME = 9999
 MOST_LEVEL = 63
@@ -76,6 +76,43 @@ def is_list(thing, least, most):
 def is_list_of(fits, thing, least, most):
     """Tell whether a thing is such a list, and each thing in it fits by the test that is handed in."""
     return is_list(thing, least, most) and all([fits(part) for part in thing])
+
+
+def is_rising(numbers):
+    """Tell whether each of a list of numbers is greater than the one ahead of it."""
+    return all([one < other for one, other in zip(numbers, numbers[1:])])
+
+
+def is_just(thing, told):
+    """Tell whether a thing is what is told, of whole numbers, texts and None in lists and tuples, kind by kind."""
+    if isinstance(told, list):
+        return isinstance(thing, list) and _are_just(thing, told)
+    if isinstance(told, tuple):
+        return isinstance(thing, tuple) and _are_just(thing, told)
+    # True and False equal numbers to Python, and are none here.
+    return not isinstance(thing, bool) and thing == told
+
+
+def _are_just(things, told):
+    return len(things) == len(told) and all([is_just(thing, part) for thing, part in zip(things, told)])
+
+
+def check_time(thing):
+    """Refuse what is no time."""
+    if not is_time(thing):
+        raise NoTime(thing)
+
+
+def check_whole(thing, low, high):
+    """Refuse what is no whole number from low to high."""
+    if not is_whole(thing, low, high):
+        raise NoNumber(thing)
+
+
+def check_truth(thing):
+    """Refuse what is neither True nor False."""
+    if not isinstance(thing, bool):
+        raise NoTruth(thing)
 
 
 def room_of_term(term):

@@ -114,6 +114,18 @@ def check_works(thing):
         raise NoWorks(thing)
 
 
+def check_point(works, thing):
+    """Refuse what is no point's name."""
+    if not works.has_point(thing):
+        raise NoPoint(thing)
+
+
+def check_place(works, thing):
+    """Refuse what is no place."""
+    if not works.has_place(thing):
+        raise NoPlace(thing)
+
+
 def is_beyond(word, limit, worth):
     """Tell whether a worth is above, or below, a limit."""
     return worth > limit if word == "above" else worth < limit

@@ -3,8 +3,13 @@
 import inspect
 import unittest
 
-from panelwatch import letters, words, works
+from panelwatch import alarms, hearing, letters, plainroom, roads, words, works
+from panelwatch.alarms import Watch
+from panelwatch.hearing import Hearing
+from panelwatch.plainroom import PlainRoom
+from panelwatch.roads import Road
 from panelwatch.works import Works
+from tests.things import RULES
 
 FUNCTIONS = {
     words: [
@@ -20,12 +25,39 @@ FUNCTIONS = {
         ("is_sign", "works thing"), ("is_signs", "works thing"), ("is_order", "works thing"),
         ("is_letter", "works thing"), ("rows_of", "works letter point"), ("in_order", "works letters"),
     ],
+    roads: [("Road", "works")],
+    hearing: [("Hearing", "works")],
+    plainroom: [("PlainRoom", "works letters * hands=()")],
+    alarms: [
+        ("Watch", "rule"), ("events", "rule history till"), ("state_at", "rule history at"),
+        ("raised_by", "hearing name till"), ("sure_events", "hearing name"),
+        ("shows_events", "rule history till thing"),
+    ],
 }
+ONE = Works([("p", "q", "level")])
+# Of each class an object, its methods with their arguments, and its double-underscore methods.
 METHODS = [
-    ("points", ""), ("rules", ""), ("causes", ""), ("commands", ""), ("relations", ""), ("places", ""),
-    ("point", "name"), ("rule", "name"), ("command", "name"), ("points_at", "place"), ("is_worth", "point thing"),
-    ("has_point", "thing"), ("has_place", "thing"), ("has_rule", "thing"), ("has_command", "thing"),
-    ("causes_of", "rule"),
+    (ONE, [
+        ("points", ""), ("rules", ""), ("causes", ""), ("commands", ""), ("relations", ""), ("places", ""),
+        ("point", "name"), ("rule", "name"), ("command", "name"), ("points_at", "place"), ("is_worth", "point thing"),
+        ("has_point", "thing"), ("has_place", "thing"), ("has_rule", "thing"), ("has_command", "thing"),
+        ("causes_of", "rule"),
+    ], ["__eq__"]),
+    (Road(ONE), [
+        ("put", "start goal letter"), ("take", "number"), ("lose", "number"), ("double", "number"),
+        ("letter", "number"), ("numbers", ""), ("bound_for", "goal"), ("under_way", ""), ("copied", ""),
+    ], ["__eq__", "__len__"]),
+    (Hearing(ONE), [
+        ("works", ""), ("hear", "letter"), ("known", "place"), ("lacking", "place"), ("history", "point"),
+        ("hand", "point worth since end"), ("unhand", "point at"), ("hands", ""), ("show", "point at"),
+        ("picture", "at"), ("letters", ""), ("marks", ""), ("copied", ""),
+    ], ["__eq__", "__len__"]),
+    (PlainRoom(ONE, []), [
+        ("works", ""), ("known", "place"), ("history", "point"), ("show", "point at"), ("picture", "at"),
+    ], []),
+    (Watch(RULES[0]), [
+        ("hear", "time worth"), ("go_on", "time"), ("events", ""), ("state", ""), ("copied", ""),
+    ], ["__eq__", "__len__"]),
 ]
 
 
@@ -49,12 +81,13 @@ class InterfaceTest(unittest.TestCase):
                     self.assertEqual(written(getattr(module, name)), arguments)
 
     def test_methods_stand_in_the_class_itself(self):
-        one = Works([("p", "q", "level")])
-        for name, arguments in METHODS:
-            with self.subTest(name=name):
-                self.assertIn(name, vars(Works))
-                self.assertEqual(written(getattr(one, name)), arguments)
-        self.assertIn("__eq__", vars(Works))
+        for one, rows, signs in METHODS:
+            for name, arguments in rows:
+                with self.subTest(kind=type(one).__name__, name=name):
+                    self.assertIn(name, vars(type(one)))
+                    self.assertEqual(written(getattr(one, name)), arguments)
+            for name in signs:
+                self.assertIn(name, vars(type(one)))
 
 
 if __name__ == "__main__":

@@ -1,9 +1,14 @@
 """What the tests share: things of every kind, sample works, and a close look at refusals."""
 
+import copy
 import re
 import unittest
 
 from panelwatch import errors
+from panelwatch.alarms import Watch
+from panelwatch.hearing import Hearing
+from panelwatch.plainroom import PlainRoom
+from panelwatch.roads import Road
 from panelwatch.works import Works
 
 PANEL_ERRORS = (
@@ -61,7 +66,8 @@ def others():
         "below", "done", "refused", "signs", "do", "back", "term", "terms", "answer", "True", "None", "x" * 200,
         [], [0], [1], ["a"], ["lv"], ["good"], [None], [[]], (), (0,), (1,), ("lv",), ("good",), (0, 1), [0, 1],
         (True, 1), (0, True), (0, 1, 2), ("a", "b"), ((),), {}, {"lv": 1}, {0: 1}, {None: None}, {True: False},
-        sample(), Works([("lv", "north", "level")]), errors.NoTime(3), errors.PanelError("a"), deep,
+        sample(), Works([("lv", "north", "level")]), errors.NoTime(3), errors.PanelError("a"), deep, Road(sample()),
+        Hearing(sample()), PlainRoom(sample(), []), Watch(RULES[0]),
         list(range(110)), tuple(range(110)), {at: at for at in range(110)},
     ]
 
@@ -86,6 +92,36 @@ def wrong(fits):
     return [thing for thing in others() if not fits(thing)]
 
 
+def spoil(thing):
+    """Change all lists and dicts in a thing."""
+    if isinstance(thing, (list, tuple)):
+        for part in thing:
+            spoil(part)
+    if isinstance(thing, dict):
+        for key in list(thing):
+            spoil(thing[key])
+        thing["more"] = "more"
+    if isinstance(thing, list):
+        thing.insert(0, "more")
+
+
+def no_signs():
+    """Things that are no letters with signs of the sample's works, near ones too."""
+    good = ("signs", "north", 2, 7, ((3, "lv", 40, "good"),))
+    return [
+        *others(), list(good), good[:4], (*good, 1), ("signs", "zz", 2, 7, ()), ("signs", "lv", 2, 7, ()),
+        ("signs", "north", 0, 7, ()), ("signs", "north", 41, 7, ()), ("signs", "north", True, 7, ()),
+        ("signs", "north", 2, 10000, ()), ("signs", "north", 2, -1, ()), ("signs", "north", 2, True, ()),
+        ("signs", "north", 2, 7, []), ("signs", "north", 2, 7, [(3, "lv", 40, "good")]),
+        ("signs", "north", 2, 7, ([3, "lv", 40, "good"],)), ("signs", "north", 2, 2, good[4]),
+        ("signs", "east", 2, 7, good[4]), ("signs", "north", 2, 7, ((3, "lv", 64, "good"),)),
+        ("signs", "north", 2, 7, ((3, "v", 2, "good"),)), ("signs", "north", 2, 7, ((3, "v", True, "good"),)),
+        ("signs", "north", 2, 7, ((3, "lv", 40, "fine"),)), ("signs", "north", 2, 7, good[4] * 13),
+        ("do", (4, 1), "open"), ("back", (4, 1)), ("term", 5), ("terms", "north", 5, 30),
+        ("answer", "north", (4, 1), "done", 5, 30),
+    ]
+
+
 class PanelCase(unittest.TestCase):
     """A test that can look closely at refusals."""
 
@@ -97,7 +133,7 @@ class PanelCase(unittest.TestCase):
         self.assertIs(type(caught.exception), error)
         self.assertIsInstance(caught.exception, FAMILIES[kind])
         told = getattr(caught.exception, FIELDS[kind])
-        if isinstance(value, (int, str)) or error is errors.Twice:
+        if isinstance(value, (int, str)) or error in (errors.Twice, errors.NotThere):
             self.assertIs(type(told), type(value))
             self.assertEqual(told, value)
         else:
@@ -117,6 +153,19 @@ class PanelCase(unittest.TestCase):
                     self.refused(error, thing, call, **{**right, name: thing, **later})
         turned = {name: right[name] for name in reversed(right)}
         self.assertEqual(call(**turned), call(**right))
+
+    def stays(self, look, error, value, call, *things, **named):
+        """A call is refused likewise, and what a look tells is as it was."""
+        ahead = look()
+        self.refused(error, value, call, *things, **named)
+        self.assertEqual(look(), ahead)
+
+    def told_anew(self, ask):
+        """What is told may be changed by the asker, inner lists too, and is told anew the next time."""
+        told = ask()
+        kept = copy.deepcopy(told)
+        spoil(told)
+        self.is_just(ask(), kept)
 
     def is_just(self, told, value):
         """What is told is the value, of the value's very kind, at most three deep."""
