@@ -3,11 +3,14 @@
 import inspect
 import unittest
 
-from panelwatch import alarms, hearing, letters, plainroom, roads, words, works
+from panelwatch import (
+    alarms, causes, falsesigns, hearing, letters, lists, plainroom, roads, trends, words, works,
+)
 from panelwatch.alarms import Watch
 from panelwatch.hearing import Hearing
 from panelwatch.plainroom import PlainRoom
 from panelwatch.roads import Road
+from panelwatch.trends import Trend
 from panelwatch.works import Works
 from tests.things import RULES
 
@@ -32,6 +35,25 @@ FUNCTIONS = {
         ("Watch", "rule"), ("events", "rule history till"), ("state_at", "rule history at"),
         ("raised_by", "hearing name till"), ("sure_events", "hearing name"),
         ("shows_events", "rule history till thing"),
+    ],
+    causes: [
+        ("are_events", "works thing"), ("cause_of", "works events name raised"),
+        ("chain_of", "works events name raised"),
+        ("first_cause", "works events name raised"), ("shows_chain", "works events name raised thing"),
+    ],
+    lists: [
+        ("standing", "works events at"), ("is_shelved", "works shelves name at"), ("back_at", "works shelves name at"),
+        ("alarm_list", "works events at * shelves=() most=9"),
+        ("shows_list", "works events at thing * shelves=() most=9"),
+    ],
+    trends: [
+        ("fine", "history since till * odd=True"), ("coarse_of", "rows size"),
+        ("coarse", "history size since till * odd=True"), ("Trend", "works point size since till * odd=True"),
+    ],
+    falsesigns: [
+        ("broken", "works picture"), ("suspects", "works picture * most=2"),
+        ("shows_suspects", "works picture thing * most=2"), ("named", "works picture * most=2"),
+        ("picture_at", "works histories time"), ("spans", "works histories since till"),
     ],
 }
 ONE = Works([("p", "q", "level")])
@@ -58,6 +80,9 @@ METHODS = [
     (Watch(RULES[0]), [
         ("hear", "time worth"), ("go_on", "time"), ("events", ""), ("state", ""), ("copied", ""),
     ], ["__eq__", "__len__"]),
+    (Trend(ONE, "p", 1, 0, 0), [
+        ("hear", "letter"), ("rows", ""), ("fine", ""), ("heard", ""), ("copied", ""),
+    ], ["__eq__"]),
 ]
 
 

@@ -9,6 +9,7 @@ from panelwatch.alarms import Watch
 from panelwatch.hearing import Hearing
 from panelwatch.plainroom import PlainRoom
 from panelwatch.roads import Road
+from panelwatch.trends import Trend
 from panelwatch.works import Works
 
 PANEL_ERRORS = (
@@ -67,7 +68,7 @@ def others():
         [], [0], [1], ["a"], ["lv"], ["good"], [None], [[]], (), (0,), (1,), ("lv",), ("good",), (0, 1), [0, 1],
         (True, 1), (0, True), (0, 1, 2), ("a", "b"), ((),), {}, {"lv": 1}, {0: 1}, {None: None}, {True: False},
         sample(), Works([("lv", "north", "level")]), errors.NoTime(3), errors.PanelError("a"), deep, Road(sample()),
-        Hearing(sample()), PlainRoom(sample(), []), Watch(RULES[0]),
+        Hearing(sample()), PlainRoom(sample(), []), Watch(RULES[0]), Trend(sample(), "lv", 5, 0, 9),
         list(range(110)), tuple(range(110)), {at: at for at in range(110)},
     ]
 
