@@ -95,14 +95,15 @@ class Watch:
         return self._wait_until(self._time)
 
     def _rest(self):
-        if not _is_at_rest(self._rule, self._worth):
+        if not is_at_rest(self._rule, self._worth):
             return []
         raised, _ = self._events.pop()
         self._events.append((raised, self._time))
         return [("ended", self._time)]
 
 
-def _is_at_rest(rule, worth):
+def is_at_rest(rule, worth):
+    """Tell whether a worth is at rest by a rule."""
     _, _, word, limit, back, _, _ = rule
     return worth <= limit - back if word == "above" else worth >= limit + back
 

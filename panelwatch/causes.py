@@ -1,8 +1,8 @@
 """First causes: under which event another one stands."""
 
-from panelwatch.errors import NoEvents, NoRule, NotThere
+from panelwatch.errors import NoEvents, NotThere
 from panelwatch.words import check_time, is_just, is_time, is_tuple
-from panelwatch.works import check_works
+from panelwatch.works import check_rule, check_works
 
 
 def are_events(works, thing):
@@ -36,8 +36,7 @@ def check_events(works, thing):
 
 def _check_named(works, events, name, raised):
     check_events(works, events)
-    if not works.has_rule(name):
-        raise NoRule(name)
+    check_rule(works, name)
     check_time(raised)
     if raised not in [begun for begun, _ in events.get(name, ())]:
         raise NotThere((name, raised))

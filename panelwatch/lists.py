@@ -1,9 +1,9 @@
 """Lists of alarms: what stands, what is shelved, and what stands under what."""
 
 from panelwatch.causes import chain_in, check_events
-from panelwatch.errors import NoList, NoRule
+from panelwatch.errors import NoList
 from panelwatch.words import check_time, check_whole, is_just, is_list, is_time, is_tuple
-from panelwatch.works import check_works
+from panelwatch.works import check_rule, check_works
 
 _MOST_SHELVES = 20
 _MOST_HEADS = 99
@@ -45,8 +45,7 @@ def back_at(works, shelves, name, at):
 def _check_asked(works, shelves, name, at):
     check_works(works)
     _check_shelves(works, shelves)
-    if not works.has_rule(name):
-        raise NoRule(name)
+    check_rule(works, name)
     check_time(at)
 
 

@@ -1,6 +1,6 @@
 """The kinds of things that are handed in and told, and what plain texts write."""
 
-from panelwatch.errors import NoNumber, NoRoom, NoTerm, NoTime, NoTruth, TooMany
+from panelwatch.errors import NoId, NoNumber, NoRoom, NoTerm, NoTime, NoTruth, TooMany
 
 MOST_TIME = 9999
 MOST_LEVEL = 63
@@ -109,6 +109,18 @@ def check_whole(thing, low, high):
         raise NoNumber(thing)
 
 
+def check_room(thing):
+    """Refuse what is no room."""
+    if not is_room(thing):
+        raise NoRoom(thing)
+
+
+def check_id(thing):
+    """Refuse what is no id."""
+    if not is_id(thing):
+        raise NoId(thing)
+
+
 def check_truth(thing):
     """Refuse what is neither True nor False."""
     if not isinstance(thing, bool):
@@ -124,8 +136,7 @@ def room_of_term(term):
 
 def next_term(room, term):
     """Tell the least term of a room that is greater than a term, the least of all with None."""
-    if not is_room(room):
-        raise NoRoom(room)
+    check_room(room)
     if term is None:
         return room
     after = term + 1 if room_of_term(term) != room else term + 2

@@ -120,6 +120,12 @@ def check_point(works, thing):
         raise NoPoint(thing)
 
 
+def check_rule(works, thing):
+    """Refuse what is no rule's name."""
+    if not works.has_rule(thing):
+        raise NoRule(thing)
+
+
 def check_place(works, thing):
     """Refuse what is no place."""
     if not works.has_place(thing):

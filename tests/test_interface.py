@@ -4,12 +4,17 @@ import inspect
 import unittest
 
 from panelwatch import (
-    alarms, causes, falsesigns, hearing, letters, lists, plainroom, roads, trends, words, works,
+    alarms, alikerules, causes, deedtexts, desk, drills, falsesigns, hearing, letters, lists, places, plainroom, plant,
+    roads, rooms, texts, trends, words, works,
 )
 from panelwatch.alarms import Watch
+from panelwatch.desk import Desk
 from panelwatch.hearing import Hearing
+from panelwatch.places import Place
 from panelwatch.plainroom import PlainRoom
+from panelwatch.plant import Plant
 from panelwatch.roads import Road
+from panelwatch.rooms import Room
 from panelwatch.trends import Trend
 from panelwatch.works import Works
 from tests.things import RULES
@@ -55,6 +60,19 @@ FUNCTIONS = {
         ("shows_suspects", "works picture thing * most=2"), ("named", "works picture * most=2"),
         ("picture_at", "works histories time"), ("spans", "works histories since till"),
     ],
+    places: [("Place", "works name")],
+    rooms: [("Room", "works number"), ("room_of", "works number rows")],
+    plant: [("Plant", "works")],
+    drills: [("drill", "works number log many=None")],
+    alikerules: [
+        ("parting", "works one other * length=8"), ("step_of", "works rule stand worth"),
+        ("alike_pairs", "works one other"), ("shows_alike", "works one other thing"),
+    ],
+    texts: [
+        ("works_text", "works"), ("works_of", "text"), ("letter_text", "works letter"), ("letter_of", "works text"),
+    ],
+    deedtexts: [("deed_text", "deed"), ("deed_of", "text"), ("plant_text", "plant"), ("plant_of", "text")],
+    desk: [("Desk", "works")],
 }
 ONE = Works([("p", "q", "level")])
 # Of each class an object, its methods with their arguments, and its double-underscore methods.
@@ -83,6 +101,28 @@ METHODS = [
     (Trend(ONE, "p", 1, 0, 0), [
         ("hear", "letter"), ("rows", ""), ("fine", ""), ("heard", ""), ("copied", ""),
     ], ["__eq__"]),
+    (Place(ONE, "q"), [
+        ("change", "point worth time * mark='good'"), ("send", "time"), ("letter", "number"), ("hears", "letter time"),
+        ("name", ""), ("time", ""), ("term", ""), ("worth", "point"), ("mark", "point"), ("waiting", ""), ("done", ""),
+        ("met", ""), ("copied", ""), ("marks", ""),
+    ], ["__eq__", "__len__"]),
+    (Room(ONE, 0), [
+        ("hears", "letter time"), ("take_over", "time"), ("choose", "command time"), ("do", "ident time * wait=10"),
+        ("again", "ident time"), ("back", "ident time"), ("hand", "point worth since end time"),
+        ("unhand", "point time"), ("shelve", "rule since end time"), ("unshelve", "rule time"), ("works", ""),
+        ("number", ""), ("term", ""), ("knows", ""), ("hearing", ""), ("ids", "at"), ("shelves", ""), ("log", ""),
+        ("state", "ident at"), ("show", "point at"), ("picture", "at"), ("alarms", "at * most=9"), ("copied", ""),
+        ("marks", ""),
+    ], ["__eq__"]),
+    (Plant(ONE), [
+        ("works", ""), ("now", ""), ("place", "name"), ("room", "number"), ("under_way", ""), ("stands", "room"),
+        ("wait", "many"), ("change", "point worth * mark='good'"), ("send", "place"), ("come", "number"),
+        ("lose", "number"), ("double", "number"), ("choose", "room command"), ("take_over", "room"),
+        ("do", "room ident"), ("again", "room ident"), ("back", "room ident"), ("hand", "room point worth since end"),
+        ("unhand", "room point"), ("shelve", "room rule since end"), ("unshelve", "room rule"), ("fall", "room"),
+        ("rise", "room"), ("deeds", ""), ("copied", ""), ("marks", ""),
+    ], ["__eq__"]),
+    (Desk(ONE), [("say", "line"), ("say_all", "lines"), ("log", ""), ("plant", "")], []),
 ]
 
 

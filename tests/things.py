@@ -6,9 +6,13 @@ import unittest
 
 from panelwatch import errors
 from panelwatch.alarms import Watch
+from panelwatch.desk import Desk
 from panelwatch.hearing import Hearing
+from panelwatch.places import Place
 from panelwatch.plainroom import PlainRoom
+from panelwatch.plant import Plant
 from panelwatch.roads import Road
+from panelwatch.rooms import Room
 from panelwatch.trends import Trend
 from panelwatch.works import Works
 
@@ -69,6 +73,7 @@ def others():
         (True, 1), (0, True), (0, 1, 2), ("a", "b"), ((),), {}, {"lv": 1}, {0: 1}, {None: None}, {True: False},
         sample(), Works([("lv", "north", "level")]), errors.NoTime(3), errors.PanelError("a"), deep, Road(sample()),
         Hearing(sample()), PlainRoom(sample(), []), Watch(RULES[0]), Trend(sample(), "lv", 5, 0, 9),
+        Place(sample(), "north"), Room(sample(), 0), Plant(sample()), Desk(sample()),
         list(range(110)), tuple(range(110)), {at: at for at in range(110)},
     ]
 
@@ -134,7 +139,7 @@ class PanelCase(unittest.TestCase):
         self.assertIs(type(caught.exception), error)
         self.assertIsInstance(caught.exception, FAMILIES[kind])
         told = getattr(caught.exception, FIELDS[kind])
-        if isinstance(value, (int, str)) or error in (errors.Twice, errors.NotThere):
+        if isinstance(value, (int, str)) or error in (errors.Twice, errors.NotThere, errors.Locked):
             self.assertIs(type(told), type(value))
             self.assertEqual(told, value)
         else:
