@@ -3,12 +3,12 @@
 from panelwatch.alarms import is_at_rest
 from panelwatch.errors import NoList, NoWorth, Unlike
 from panelwatch.words import MOST_LEVEL, check_whole, is_one_of, is_tuple, is_whole
-from panelwatch.works import check_rule, check_works, is_beyond
+from panelwatch.works import check_works, is_beyond
 
 _MOST_LENGTH = 200
 _QUIET = ("quiet", 0)
 _STANDS = ("stands", 0)
-_BOTH_QUIET = (_QUIET, _QUIET)
+_BOTH_QUIET = (("quiet", 0), ("quiet", 0))
 
 
 def parting(works, one, other, *, length=8):
@@ -37,7 +37,6 @@ def parting(works, one, other, *, length=8):
 def step_of(works, rule, stand, worth):
     """Tell how a rule stands behind one tick more, and the word that comes of it, a tuple (stand, word)."""
     check_works(works)
-    check_rule(works, rule)
     row = works.rule(rule)
     if not _is_stand(row, stand):
         raise NoList(stand)
@@ -81,8 +80,6 @@ def shows_alike(works, one, other, thing):
 
 def _check_two(works, one, other):
     check_works(works)
-    check_rule(works, one)
-    check_rule(works, other)
     if works.rule(one)[1] != works.rule(other)[1]:
         raise Unlike(other)
 

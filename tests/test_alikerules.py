@@ -94,7 +94,8 @@ class PartingTest(PanelCase):
     def test_otherwise_in_one_thing(self):
         rows = [
             (("below", 40, 5, 3), [0] * 4), (("above", 41, 5, 3), [41] * 4), (("above", 39, 5, 3), [40] * 4),
-            (("above", 40, 6, 3), [41] * 4 + [35]), (("above", 40, 4, 3), [41] * 4 + [36]), (("above", 40, 5, 2), [41] * 3),
+            (("above", 40, 6, 3), [41] * 4 + [35]), (("above", 40, 4, 3), [41] * 4 + [36]),
+            (("above", 40, 5, 2), [41] * 3),
             (("above", 40, 5, 4), [41] * 4),
         ]
         for other, worths in rows:
@@ -108,7 +109,8 @@ class PartingTest(PanelCase):
     def test_alike(self):
         rules = [
             ((self.GOOD, self.GOOD), "level"), ((("above", 63, 0, 0), ("below", 0, 9, 4)), "level"),
-            ((("above", 30, 31, 2), ("above", 30, 63, 2)), "level"), ((("above", 1, 0, 0), ("below", 0, 0, 0)), "switch"),
+            ((("above", 30, 31, 2), ("above", 30, 63, 2)), "level"),
+            ((("above", 1, 0, 0), ("below", 0, 0, 0)), "switch"),
             ((("below", 1, 0, 5), ("below", 1, 0, 5)), "switch"), ((("above", 0, 1, 9), ("above", 0, 63, 9)), "switch"),
             ((("below", 40, 24, 0), ("below", 40, 63, 0)), "level"),
         ]
@@ -129,7 +131,8 @@ class PartingTest(PanelCase):
     def test_bounds_of_rules(self):
         rows = [
             (("above", 0, 0, 0), ("above", 63, 0, 0), [1]), (("below", 63, 0, 0), ("below", 0, 0, 0), [0]),
-            (("above", 62, 63, 0), ("above", 62, 62, 0), [63, 0]), (("above", 62, 62, 0), ("above", 62, 61, 0), [63, 1]),
+            (("above", 62, 63, 0), ("above", 62, 62, 0), [63, 0]),
+            (("above", 62, 62, 0), ("above", 62, 61, 0), [63, 1]),
             (("below", 1, 62, 0), ("below", 1, 63, 0), [0, 63]), (("below", 1, 61, 0), ("below", 1, 62, 0), [0, 62]),
         ]
         for one, other, worths in rows:
@@ -303,7 +306,8 @@ class PairsTest(PanelCase):
         self.is_just(pairs, [(QUIET, QUIET), (STANDS, STANDS), (("waits", 1), ("waits", 1))])
         works = two(("above", 63, 0, 2), ("below", 0, 0, 3))
         self.is_just(alike_pairs(works, "a", "b"), [(QUIET, QUIET)])
-        self.assertIs(shows_alike(works, "a", "b", [(("waits", 2), QUIET), (QUIET, QUIET), (QUIET, ("waits", 3))]), True)
+        self.assertIs(shows_alike(works, "a", "b", [(("waits", 2), QUIET), (QUIET, QUIET), (QUIET, ("waits", 3))]),
+                      True)
         self.assertIs(shows_alike(works, "a", "b", [(QUIET, QUIET), (STANDS, QUIET)]), False)
 
     def test_turned_about(self):

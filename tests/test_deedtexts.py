@@ -73,7 +73,8 @@ class DeedTest(PanelCase):
             self.is_just(deed_of(deed_text(deed)), deed)
 
     def test_each_thing_otherwise(self):
-        more = [10000, -1, 9999, "abcdefgh", "abcdefghi", (0, 1), (0, 0), (1000, 1), [0, 1], (0, True), "over", "take_over"]
+        more = [10000, -1, 9999, "abcdefgh", "abcdefghi", (0, 1), (0, 0), (1000, 1), [0, 1], (0, True), "over",
+                "take_over"]
         many = [0, 0]
         for deed, _ in DEEDS:
             near = [list(deed), deed[:-1], (*deed, 1), (*deed, "good"), deed[1:], (deed,), ()]
@@ -89,15 +90,18 @@ class DeedTest(PanelCase):
         self.assertGreater(min(many), 100)
 
     def test_no_deeds(self):
-        things = [*others(), ("over", 0), ("take_over", 2), ("change", "lv", 40), ("do", 0, 2, 1), ("do", 0, [2, 1]), DEEDS]
+        things = [*others(), ("over", 0), ("take_over", 2), ("change", "lv", 40), ("do", 0, 2, 1), ("do", 0, [2, 1]),
+                  DEEDS]
         self.look_at_arguments(deed_text, ("deed", DEEDS[0][0], things, NoDeed))
 
     def test_no_texts(self):
-        near = ["", " ", "\n", "undo", "now", "take_over 0", "over", "over 2", "change lv 40", "do 0 2", "do 0 2 1 1", *ROWS]
+        near = ["", " ", "\n", "undo", "now", "take_over 0", "over", "over 2", "change lv 40", "do 0 2", "do 0 2 1 1",
+                *ROWS]
         for _, text in DEEDS:
             near.extend([
                 text + " ", " " + text, text.replace(" ", "  ", 1), text + "\n", "\n" + text, text.upper(), text[1:],
-                text.replace(" ", "\n", 1), text + " 1", text + " good", text.replace(" ", " 0", 1), text.replace(" ", ""),
+                text.replace(" ", "\n", 1), text + " 1", text + " good", text.replace(" ", " 0", 1),
+                text.replace(" ", ""),
             ])
         near = [text for text in near if deed_by_words(text) is None]
         self.look_at_arguments(deed_of, ("text", "wait 5", [*others(), *near], NoText))
@@ -120,7 +124,8 @@ class DeedTest(PanelCase):
 
 
 class PlantTextTest(PanelCase):
-    ROW = ["wait 3", "change lv 46 odd", "send north", "come 1", "choose 0 fill", "do 0 0 1", "over 1", "fall 0", "rise 0"]
+    ROW = ["wait 3", "change lv 46 odd", "send north", "come 1", "choose 0 fill", "do 0 0 1", "over 1", "fall 0",
+           "rise 0"]
 
     def test_written(self):
         self.is_just(plant_text(Plant(sample())), TEXT)
@@ -190,7 +195,8 @@ class PlantTextTest(PanelCase):
         self.assertGreater(min(many), 50)
 
     def test_rows_that_write_no_deed(self):
-        for row in ("", "wait", "wait 05", "wait 10000", " wait 5", "wait 5 ", "take_over 0", "undo", "now", "over  0", ROWS[0], ROWS[-1]):
+        for row in ("", "wait", "wait 05", "wait 10000", " wait 5", "wait 5 ", "take_over 0", "undo", "now", "over  0",
+                    ROWS[0], ROWS[-1]):
             for at in range(1, len(self.ROW) + 1):
                 rows = [TEXT, *self.ROW[:at], row, *self.ROW[at:]]
                 self.refused(NoRow, len(ROWS) + at, plant_of, "\n".join(rows))
@@ -219,7 +225,8 @@ class PlantTextTest(PanelCase):
     def test_kinds(self):
         no_plants = wrong(lambda thing: isinstance(thing, Plant))
         self.look_at_arguments(plant_text, ("plant", Plant(sample()), no_plants, NoPlant))
-        self.look_at_arguments(lambda **named: plant_text(plant_of(**named)), ("text", TEXT + "\nwait 5", NO_TEXTS, NoText))
+        self.look_at_arguments(lambda **named: plant_text(plant_of(**named)),
+                               ("text", TEXT + "\nwait 5", NO_TEXTS, NoText))
 
     def test_the_largest_in_time(self):
         chance, works = random.Random(136), large_works()

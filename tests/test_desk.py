@@ -6,7 +6,7 @@ import unittest
 from panelwatch.deedtexts import deed_of, deed_text
 from panelwatch.desk import Desk
 from panelwatch.errors import (
-    Absent, Barred, Down, Locked, NoCommand, NoLine, NoList, NoNumber, NoPlace, NoPoint, NoRule, NotNow, NotOnRoad,
+    Absent, Barred, Down, NoCommand, NoLine, NoList, NoNumber, NoPlace, NoPoint, NoRule, NotNow, NotOnRoad,
     NotThere, NoTime, NoWorks, NoWorth, PanelError, Stands, TooMany,
 )
 from panelwatch.falsesigns import picture_at, suspects
@@ -18,16 +18,17 @@ from panelwatch.works import Works
 from tests import deeds
 from tests.large import in_time, large_works
 from tests.models import look_at_plant
-from tests.test_deedtexts import DEEDS
-from tests.things import PanelCase, others, sample, whole, wrong
+from tests.things import PanelCase, others, sample, wrong
 
 NO_WORKS = wrong(lambda thing: isinstance(thing, Works))
 REFUSALS = (PanelError, Absent, Barred)
 # Lines that can be said one behind the other, and what each tells.
 LINES = [
-    ("wait 3", []), ("change lv 46 good", []), ("send north", []), ("come 1", ["yes"]), ("double 2", ["3"]), ("come 2", ["yes"]),
+    ("wait 3", []), ("change lv 46 good", []), ("send north", []), ("come 1", ["yes"]), ("double 2", ["3"]),
+    ("come 2", ["yes"]),
     ("come 3", ["no"]), ("choose 0 fill", ["0 1"]), ("choose 0 fill", ["0 2"]), ("do 0 0 1", []), ("again 0 0 1", []),
-    ("back 0 0 2", []), ("come 4", ["yes"]), ("lose 5", []), ("over 1", []), ("hand 0 a 9 3 30", []), ("unhand 0 a", []),
+    ("back 0 0 2", []), ("come 4", ["yes"]), ("lose 5", []), ("over 1", []), ("hand 0 a 9 3 30", []),
+    ("unhand 0 a", []),
     ("shelve 1 high 3 9", []), ("unshelve 1 high", []), ("fall 0", []), ("come 6", ["no"]), ("rise 0", []),
 ]
 
@@ -174,11 +175,13 @@ class SayTest(PanelCase):
         desk = desk_that_said(*[line for line, _ in LINES], "fall 1")
         rows = [
             (NoNumber, 0, "wait 0"), (NoNumber, 9999, "wait 9999"), (NoPoint, "zz", "change zz 99 good"),
-            (NoWorth, 64, "change lv 64 good"), (NoPlace, "lv", "send lv"), (NotOnRoad, 1, "come 1"), (NotOnRoad, 0, "lose 0"),
+            (NoWorth, 64, "change lv 64 good"), (NoPlace, "lv", "send lv"), (NotOnRoad, 1, "come 1"),
+            (NotOnRoad, 0, "lose 0"),
             (NotOnRoad, 999, "double 999"), (NoCommand, "high", "choose 0 high"), (Down, 1, "choose 1 high"),
             (NotNow, (0, 2), "do 0 0 2"), (NotThere, (4, 1), "again 0 4 1"), (NotThere, (1, 1), "back 0 1 1"),
             (NoTime, 3, "hand 0 lv 9 3 3"), (NotThere, "lv", "unhand 0 lv"), (NoRule, "lv", "shelve 0 lv 9 3"),
-            (NoTime, 3, "shelve 0 high 9 3"), (NotThere, "high", "unshelve 0 high"), (Stands, 0, "rise 0"), (Down, 1, "fall 1"),
+            (NoTime, 3, "shelve 0 high 9 3"), (NotThere, "high", "unshelve 0 high"), (Stands, 0, "rise 0"),
+            (Down, 1, "fall 1"),
             (Down, 1, "over 1"),
         ]
         for error, value, line in rows:
@@ -191,12 +194,17 @@ class SayTest(PanelCase):
     def test_no_lines(self):
         desk = desk_that_said("wait 3", "change lv 46 good")
         near = [
-            "undo ", " undo", "undo 1", "undone", "now 1", "now ", "Now", "road 0", "road  ", "show 0 lv", "show 0 lv 10000",
-            "show 2 lv 3", "show 0 lv 03", "show 0 3 lv", "show 0 lv 3 4", "show 0 LV 3", "show  0 lv 3", "show 0 abcdefghi 3",
+            "undo ", " undo", "undo 1", "undone", "now 1", "now ", "Now", "road 0", "road  ", "show 0 lv",
+            "show 0 lv 10000",
+            "show 2 lv 3", "show 0 lv 03", "show 0 3 lv", "show 0 lv 3 4", "show 0 LV 3", "show  0 lv 3",
+            "show 0 abcdefghi 3",
             "show lv 0 3", "ids 0", "ids 0 -1", "ids 2 0", "ids 0 0 0", "alarms 0 5", "alarms 0 5 9 9", "alarms 2 5 9",
-            "alarms 0 5 x", "alarms 0 05 9", "trend 0 lv 5 0", "trend 0 lv 5 0 9 9", "trend 2 lv 5 0 9", "trend 0 5 lv 0 9",
-            "trend 0 lv 5 0 10000", "doubt 0", "doubt 2 5", "doubt 0 lv", "doubt 0 5 5", "take_over 0", "over", "over 2",
-            "change lv 40", "wait 05", "wait 10000", "wait 5\n", "wait 5\nnow", "do 0 0", "point a x level", "begin", "end",
+            "alarms 0 5 x", "alarms 0 05 9", "trend 0 lv 5 0", "trend 0 lv 5 0 9 9", "trend 2 lv 5 0 9",
+            "trend 0 5 lv 0 9",
+            "trend 0 lv 5 0 10000", "doubt 0", "doubt 2 5", "doubt 0 lv", "doubt 0 5 5", "take_over 0", "over",
+            "over 2",
+            "change lv 40", "wait 05", "wait 10000", "wait 5\n", "wait 5\nnow", "do 0 0", "point a x level", "begin",
+            "end",
             "back", "more 3", "none", "-", "hand 0 lv 9 3", "send 1", "choose 0 1",
         ]
         self.look_at_arguments(desk.say, ("line", "now", [*others(), *near], NoLine))
@@ -270,7 +278,8 @@ class AskTest(PanelCase):
         desk = Desk(sample())
         rows = {
             "now": ["0"], "road": [], "show 0 lv 0": ["- - - open"], "show 1 w 9999": ["- - - open"], "ids 0 0": [],
-            "ids 1 9999": [], "alarms 0 0 1": [], "alarms 1 9999 99": [], "trend 0 lv 1 0 999": [], "trend 1 w 400 9 3": [],
+            "ids 1 9999": [], "alarms 0 0 1": [], "alarms 1 9999 99": [], "trend 0 lv 1 0 999": [],
+            "trend 1 w 400 9 3": [],
             "doubt 0 0": ["none"], "doubt 1 9999": ["none"],
         }
         for line, told in rows.items():
@@ -283,7 +292,8 @@ class AskTest(PanelCase):
                               "do 0 0 1", "come 6", "back 0 0 1", "come 4")
         self.is_just(desk.say("road"), [
             "1 north 0 signs north 1 3 3 lv 46 odd 3 v 1 good", "2 north 1 signs north 1 3 3 lv 46 odd 3 v 1 good",
-            "3 1 dam term 1", "5 1 north term 1", "7 east 0 answer east 0 1 done 0 3", "8 east 1 answer east 0 1 done 0 3",
+            "3 1 dam term 1", "5 1 north term 1", "7 east 0 answer east 0 1 done 0 3",
+            "8 east 1 answer east 0 1 done 0 3",
             "9 0 east back 0 1", "10 east 0 terms east 1 3", "11 east 1 terms east 1 3",
         ])
         desk.say("choose 0 open")
@@ -293,7 +303,8 @@ class AskTest(PanelCase):
             self.assertTrue(is_letter(sample(), letter_of(sample(), text.split(" ", 3)[3])))
 
     def test_show(self):
-        desk = desk_that_said("wait 3", "change lv 46 odd", "wait 3", "send north", "come 1", "hand 0 v 1 4 9", "hand 1 lv 5 0 99")
+        desk = desk_that_said("wait 3", "change lv 46 odd", "wait 3", "send north", "come 1", "hand 0 v 1 4 9",
+                              "hand 1 lv 5 0 99")
         rows = {
             "show 0 lv 2": ["- - - sure"], "show 0 lv 3": ["46 3 odd sure"], "show 0 lv 6": ["46 3 odd open"],
             "show 0 v 4": ["1 4 good hand"], "show 0 v 9": ["- - - open"], "show 1 lv 9": ["5 0 good hand"],
@@ -305,7 +316,8 @@ class AskTest(PanelCase):
         self.refused(NoPoint, "north", desk.say, "show 1 north 3")
 
     def test_ids(self):
-        desk = desk_that_said("over 0", *["choose 0 fill"] * 5, "do 0 2 1", "do 0 2 2", "back 0 2 3", "do 0 2 5", "come 4", "come 5",
+        desk = desk_that_said("over 0", *["choose 0 fill"] * 5, "do 0 2 1", "do 0 2 2", "back 0 2 3", "do 0 2 5",
+                              "come 4", "come 5",
                               "wait 1", "come 7", "again 0 2 5")
         self.is_just(desk.say("ids 0 10"), [
             "2 1 fill done", "2 2 fill unknown", "2 3 fill dropped", "2 4 fill chosen", "2 5 fill asked",
@@ -320,7 +332,8 @@ class AskTest(PanelCase):
                    ("d", "q", "below", 9, 0, 0, 1)],
             causes=[("a", "b", 9), ("a", "c", 9)],
         )
-        desk = desk_that_said("wait 5", "change p 30 good", "change q 3 good", "send x", "send y", "come 1", "come 3", works=works)
+        desk = desk_that_said("wait 5", "change p 30 good", "change q 3 good", "send x", "send y", "come 1", "come 3",
+                              works=works)
         self.is_just(desk.say("alarms 0 4 9"), [])
         self.is_just(desk.say("alarms 0 5 9"), ["d 5", "a 5"])
         self.is_just(desk.say("alarms 0 6 9"), ["d 5", "a 5: b 6"])
@@ -336,7 +349,8 @@ class AskTest(PanelCase):
             self.stays(lambda: look(desk), NoNumber, most, desk.say, f"alarms 0 7 {most}")
 
     def test_trend(self):
-        desk = desk_that_said("wait 5", "change lv 30 good", "wait 3", "change lv 10 odd", "wait 9", "send north", "come 1",
+        desk = desk_that_said("wait 5", "change lv 30 good", "wait 3", "change lv 10 odd", "wait 9", "send north",
+                              "come 1",
                               "hand 0 lv 60 0 99")
         self.is_just(desk.say("trend 0 lv 5 0 14"), ["5 5 110 10 30", "10 5 50 10 10"])
         self.is_just(desk.say("trend 0 lv 400 4 5"), ["0 1 30 30 30"])
@@ -344,7 +358,8 @@ class AskTest(PanelCase):
         self.is_just(desk.say("trend 0 lv 5 9 8"), [])
         self.is_just(desk.say("trend 1 lv 5 0 14"), [])
         rows = [
-            (NoPoint, "zz", "trend 0 zz 0 0 9999"), (NoNumber, 0, "trend 0 lv 0 0 9999"), (NoNumber, 401, "trend 0 lv 401 0 9999"),
+            (NoPoint, "zz", "trend 0 zz 0 0 9999"), (NoNumber, 0, "trend 0 lv 0 0 9999"),
+            (NoNumber, 401, "trend 0 lv 401 0 9999"),
             (TooMany, 1001, "trend 0 lv 5 0 1000"), (TooMany, 10000, "trend 0 lv 5 0 9999"),
         ]
         for error, value, line in rows:
@@ -352,7 +367,8 @@ class AskTest(PanelCase):
 
     def test_doubt(self):
         # The sample's relations: a is b; a is b, c and lv together; lv is 0 where v is; c is lv.
-        desk = desk_that_said("wait 2", "change lv 5 good", "change v 0 odd", "wait 1", "change v 1 good", "change v 0 good", "wait 2",
+        desk = desk_that_said("wait 2", "change lv 5 good", "change v 0 odd", "wait 1", "change v 1 good",
+                              "change v 0 good", "wait 2",
                               "send north", "come 1")
         self.is_just(desk.say("doubt 0 1"), ["none"])
         self.is_just(desk.say("doubt 0 2"), ["none"])
@@ -360,8 +376,10 @@ class AskTest(PanelCase):
         self.is_just(desk.say("doubt 1 3"), ["none"])
         desk.say("hand 0 v 1 0 99")
         self.is_just(desk.say("doubt 0 3"), ["lv 0", "v 1"])
-        works = Works([(name, "x", "level") for name in "abcdef"], relations=[("same", "a", "b"), ("same", "c", "d"), ("same", "e", "f")])
-        lines = ["wait 1", "change a 5 good", "change b 6 good", "change c 7 good", "change d 8 good", "change f 9 good"]
+        works = Works([(name, "x", "level") for name in "abcdef"],
+                      relations=[("same", "a", "b"), ("same", "c", "d"), ("same", "e", "f")])
+        lines = ["wait 1", "change a 5 good", "change b 6 good", "change c 7 good", "change d 8 good",
+                 "change f 9 good"]
         desk = desk_that_said(*lines, "send x", "come 1", works=works)
         self.is_just(desk.say("doubt 0 1"), ["a 6, c 8", "a 6, d 7", "b 5, c 8", "b 5, d 7"])
         desk = desk_that_said(*lines, "change e 1 good", "send x", "come 1", works=works)
@@ -415,7 +433,8 @@ class SayAllTest(PanelCase):
     def test_one_refused(self):
         desk = desk_that_said("wait 3", "choose 0 fill")
         lines = ["now", "wait 4", "undo", "undo", "change lv 46 good", "send north", "come 1", "show 0 lv 3"]
-        bad = [(NoNumber, 0, "wait 0"), (NotOnRoad, 9, "come 9"), (NoLine, "nothing", "nothing"), (NoPoint, "zz", "show 0 zz 3"),
+        bad = [(NoNumber, 0, "wait 0"), (NotOnRoad, 9, "come 9"), (NoLine, "nothing", "nothing"),
+               (NoPoint, "zz", "show 0 zz 3"),
                (NoNumber, 0, "alarms 0 3 0"), (NotThere, (0, 2), "do 0 0 2")]
         for at in range(len(lines) + 1):
             for error, value, line in bad:
@@ -431,7 +450,8 @@ class SayAllTest(PanelCase):
         told = desk.say_all(["now", "undo", "now", "wait 5", "wait 6", "undo", "now", "send dam", "road"])
         road = ["1 dam 0 signs dam 1 5", "2 dam 1 signs dam 1 5"]
         self.is_just(told, [["3"], [], ["0"], [], [], [], ["5"], [], road])
-        self.is_just(desk.log(), ["wait", "begin", "now", "undo", "now", "wait", "wait", "undo", "now", "send", "road", "end"])
+        self.is_just(desk.log(), ["wait", "begin", "now", "undo", "now", "wait", "wait", "undo", "now", "send", "road",
+                                  "end"])
         # What can be undone is as ahead of them all: what was taken back among them, too.
         desk = desk_that_said("wait 3", "wait 4")
         self.refused(NotNow, "undo", desk.say_all, ["undo", "undo", "undo"])
@@ -473,8 +493,10 @@ class ByChanceTest(PanelCase):
         room, at = chance.randrange(2), max(0, now + chance.randint(-9, 9))
         point = chance.choice(plant.works().points())[0]
         return chance.choice((
-            "undo", "undo", "now", "road", f"show {room} {point} {at}", f"ids {room} {at}", f"alarms {room} {at} {chance.randint(1, 3)}",
-            f"trend {room} {point} {chance.randint(1, 9)} {max(0, at - 9)} {at}", f"doubt {room} {at}", "show 0 zz 3", "alarms 0 3 0",
+            "undo", "undo", "now", "road", f"show {room} {point} {at}", f"ids {room} {at}",
+            f"alarms {room} {at} {chance.randint(1, 3)}",
+            f"trend {room} {point} {chance.randint(1, 9)} {max(0, at - 9)} {at}", f"doubt {room} {at}", "show 0 zz 3",
+            "alarms 0 3 0",
         ))
 
     def told(self, say, lines):

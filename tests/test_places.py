@@ -10,7 +10,7 @@ from panelwatch.places import Place
 from panelwatch.works import Works
 from tests.chances import other_works, worth_of
 from tests.models import PlaceModel, Refused, look_at_place
-from tests.things import COMMANDS, POINTS, PanelCase, among, no_signs, others, sample, whole, wrong
+from tests.things import COMMANDS, PanelCase, among, no_signs, others, sample, whole, wrong
 
 NO_WORKS = wrong(lambda thing: isinstance(thing, Works))
 NO_TIMES = [*wrong(whole(0, 9999)), True, 10000]
@@ -68,13 +68,15 @@ class ChangeTest(PanelCase):
         self.assertIs(place.change(mark="good", time=4, worth=6, point="lv"), True)
         self.assertIs(place.change("lv", 0, 4), True)
         self.assertIs(place.change("v", 0, 9, mark="odd"), True)
-        signs = [(3, "lv", 5, "good"), (4, "lv", 5, "odd"), (4, "lv", 6, "good"), (4, "lv", 0, "good"), (9, "v", 0, "odd")]
+        signs = [(3, "lv", 5, "good"), (4, "lv", 5, "odd"), (4, "lv", 6, "good"), (4, "lv", 0, "good"),
+                 (9, "v", 0, "odd")]
         self.is_just(place.waiting(), signs)
         self.is_just((place.worth("lv"), place.mark("lv"), place.worth("v"), place.mark("v")), (0, "good", 0, "odd"))
 
     def test_changes_at_one_time_stay_in_order(self):
         place = Place(sample(), "north")
-        rows = [(7, "lv", 1, "good"), (7, "v", 1, "good"), (7, "lv", 2, "odd"), (7, "v", 0, "good"), (7, "lv", 1, "good")]
+        rows = [(7, "lv", 1, "good"), (7, "v", 1, "good"), (7, "lv", 2, "odd"), (7, "v", 0, "good"),
+                (7, "lv", 1, "good")]
         for at, point, worth, mark in rows:
             self.assertIs(place.change(point, worth, at, mark=mark), True)
         self.is_just(place.waiting(), rows)
@@ -330,12 +332,6 @@ class EqualTest(PanelCase):
             deed(place)
         return place
 
-    def equal(self, one, other, value):
-        self.assertIs(one == other, value)
-        self.assertIs(one != other, not value)
-        self.assertIs(one.marks() == other.marks(), value)
-        self.assertIs(hash(one.marks()) == hash(other.marks()), value)
-
     def test_equal_deeds(self):
         for many in range(len(self.DEEDS) + 1):
             self.equal(self.place_that_did(self.DEEDS[:many]), self.place_that_did(self.DEEDS[:many]), True)
@@ -347,7 +343,8 @@ class EqualTest(PanelCase):
             [deed for deed in self.DEEDS if deed != left] for left in self.DEEDS
         ] + [
             [*self.DEEDS[:3], self.DEEDS[4], self.DEEDS[3], *self.DEEDS[5:]], [*self.DEEDS, last],
-            [lambda place: place.change("b", 5, 3), *self.DEEDS[1:]], [lambda place: place.change("a", 4, 3), *self.DEEDS[1:]],
+            [lambda place: place.change("b", 5, 3), *self.DEEDS[1:]],
+            [lambda place: place.change("a", 4, 3), *self.DEEDS[1:]],
             [self.DEEDS[0], lambda place: place.change("s", 1, 3), *self.DEEDS[2:]],
             [*self.DEEDS[:2], lambda place: place.send(3), *self.DEEDS[3:]],
             [*self.DEEDS[:3], lambda place: place.hears(("do", (4, 2), "fill"), 5), *self.DEEDS[4:]],
@@ -424,7 +421,8 @@ class AllDeedsTest(PanelCase):
                 try:
                     told = getattr(model, word)(*things, **named)
                 except Refused as refused:
-                    self.stays(lambda: look(place), refused.error, refused.value, getattr(place, word), *things, **named)
+                    self.stays(lambda: look(place), refused.error, refused.value, getattr(place, word), *things,
+                               **named)
                 else:
                     self.is_just(getattr(place, word)(*things, **named), told)
                 self.is_just(look_at_place(place, works), model.look())

@@ -118,12 +118,15 @@ class DeedsTest(PanelCase):
         plant.change("lv", 5)
         self.is_just(plant.place("north").waiting(), [(3, "lv", 5, "good"), (3, "v", 1, "odd")])
         # The deed is done where nothing is otherwise, too; the mark is told always.
-        self.is_just(plant.deeds()[1:], [("change", "lv", 5, "good"), ("change", "v", 1, "odd"), ("change", "lv", 5, "good")])
+        self.is_just(plant.deeds()[1:], [("change", "lv", 5, "good"), ("change", "v", 1, "odd"),
+                                         ("change", "lv", 5, "good")])
         marks = ("mark", "odd", wrong(among("good", "odd")), NoMark)
         worths = wrong(whole(0, 63))
-        self.look_at_arguments(refusing("change"), ("point", "a", NO_POINTS, NoPoint), ("worth", 63, worths, NoWorth), marks)
+        self.look_at_arguments(refusing("change"), ("point", "a", NO_POINTS, NoPoint), ("worth", 63, worths, NoWorth),
+                               marks)
         worths = [*wrong(whole(0, 1)), True]
-        self.look_at_arguments(refusing("change"), ("point", "w", NO_POINTS, NoPoint), ("worth", 1, worths, NoWorth), marks)
+        self.look_at_arguments(refusing("change"), ("point", "w", NO_POINTS, NoPoint), ("worth", 1, worths, NoWorth),
+                               marks)
 
     def test_send(self):
         plant = row_of(("wait", 3), ("change", "lv", 5, "good"), ("wait", 1))
@@ -131,7 +134,8 @@ class DeedsTest(PanelCase):
         letter = ("signs", "north", 1, 4, ((3, "lv", 5, "good"),))
         self.is_just(plant.under_way(), [(1, "north", 0, letter), (2, "north", 1, letter)])
         plant.send(place="dam")
-        self.is_just(plant.under_way()[2:], [(3, "dam", 0, ("signs", "dam", 1, 4, ())), (4, "dam", 1, ("signs", "dam", 1, 4, ()))])
+        self.is_just(plant.under_way()[2:], [(3, "dam", 0, ("signs", "dam", 1, 4, ())),
+                                             (4, "dam", 1, ("signs", "dam", 1, 4, ()))])
         self.is_just(plant.place("north").waiting(), [])
         self.look_at_arguments(refusing("send"), ("place", "east", NO_PLACES, NoPlace))
 
@@ -172,7 +176,8 @@ class DeedsTest(PanelCase):
         self.assertIs(plant.lose(number=4), None)
         self.is_just(plant.double(2), 5)
         letter = ("signs", "dam", 1, 0, ())
-        self.is_just(plant.under_way(), [(1, "dam", 0, letter), (2, "dam", 1, letter), (3, "dam", 0, letter), (5, "dam", 1, letter)])
+        self.is_just(plant.under_way(), [(1, "dam", 0, letter), (2, "dam", 1, letter), (3, "dam", 0, letter),
+                                         (5, "dam", 1, letter)])
 
     def test_not_on_road(self):
         ahead = [("send", "dam"), ("double", 1), ("lose", 2)]
@@ -182,7 +187,8 @@ class DeedsTest(PanelCase):
 
     def test_letters_of_a_room(self):
         plant = row_of(("choose", 0, "fill"), ("choose", 0, "open"), ("choose", 0, "fill"))
-        for deed in (("do", 0, (0, 1)), ("do", 0, (0, 2)), ("again", 0, (0, 1)), ("back", 0, (0, 2)), ("back", 0, (0, 3)),
+        for deed in (("do", 0, (0, 1)), ("do", 0, (0, 2)), ("again", 0, (0, 1)), ("back", 0, (0, 2)),
+                     ("back", 0, (0, 3)),
                      ("take_over", 0), ("take_over", 1)):
             self.assertIs(deeds.do(plant, deed), None)
         self.is_just([row[1:] for row in plant.under_way()], [
@@ -307,12 +313,6 @@ class RoomDeedsTest(PanelCase):
 
 
 class EqualTest(PanelCase):
-    def equal(self, one, other, value):
-        self.assertIs(one == other, value)
-        self.assertIs(one != other, not value)
-        self.assertIs(one.marks() == other.marks(), value)
-        self.assertIs(hash(one.marks()) == hash(other.marks()), value)
-
     def test_equal_deeds(self):
         rows = [row[0] for row in ROW]
         for many in range(len(rows) + 1):
@@ -324,7 +324,8 @@ class EqualTest(PanelCase):
         rows = [("wait", 3), ("change", "lv", 5, "good"), ("send", "north"), ("come", 1), ("choose", 0, "fill"),
                 ("do", 0, (0, 1)), ("hand", 1, "a", 9, 5, 30), ("shelve", 1, "high", 5, 60), ("fall", 0)]
         changes = {
-            0: ("wait", 4), 1: ("change", "lv", 5, "odd"), 2: ("send", "east"), 3: ("come", 2), 4: ("choose", 0, "drain"),
+            0: ("wait", 4), 1: ("change", "lv", 5, "odd"), 2: ("send", "east"), 3: ("come", 2),
+            4: ("choose", 0, "drain"),
             5: ("back", 0, (0, 1)), 6: ("hand", 1, "a", 9, 5, 31), 7: ("shelve", 1, "low", 5, 60), 8: ("fall", 1),
         }
         for at, deed in changes.items():

@@ -22,7 +22,8 @@ SIGNS = ("signs", "north", 1, 9, ((3, "lv", 46, "good"), (7, "v", 0, "odd")))
 LOG = [
     ("heard", SIGNS, 1), ("chosen", "fill", 2), ("chosen", "open", 3), ("did", (0, 1), 3, 10), ("did", (0, 2), 3, 1),
     ("again", (0, 1), 4), ("back", (0, 2), 5), ("heard", ("answer", "east", (0, 1), "done", 0, 4), 6),
-    ("hand", "lv", 7, 2, 30, 6), ("shelved", "high", 0, 99, 7), ("heard", ("terms", "dam", 3, 7), 8), ("unhand", "lv", 9),
+    ("hand", "lv", 7, 2, 30, 6), ("shelved", "high", 0, 99, 7), ("heard", ("terms", "dam", 3, 7), 8),
+    ("unhand", "lv", 9),
     ("unshelved", "high", 9), ("over", 10), ("chosen", "drain", 11), ("back", (4, 1), 12),
 ]
 # The deed of the model that writes a row, and where the row has the deed's time.
@@ -33,7 +34,7 @@ DEEDS = {
 
 
 def model_of(works, number, rows):
-    """The model that did what the rows tell, and the number of the first one that it refused or that changed nothing."""
+    """The model that did what the rows tell, and the number of the first one that was refused or changed nothing."""
     model = RoomModel(works, number)
     for at, row in enumerate(rows):
         try:
@@ -89,8 +90,10 @@ class RoomOfTest(LogCase):
 
     def test_rows_of_other_forms(self):
         for at, row in enumerate(LOG):
-            forms = [list(row), row[:-1], (*row, row[-1]), (*row, 10), row[1:], (row,), (row[0].title(), *row[1:]), row[::-1]]
-            forms.extend([(word, *row[1:]) for word in ("", "hear", "take_over", "choose", "do", "shelve", "unshelve", None)])
+            forms = [list(row), row[:-1], (*row, row[-1]), (*row, 10), row[1:], (row,), (row[0].title(), *row[1:]),
+                     row[::-1]]
+            forms.extend([(word, *row[1:]) for word in ("", "hear", "take_over", "choose", "do", "shelve", "unshelve",
+                                                        None)])
             for form in forms:
                 self.refused(NoRow, at, room_of, sample(), 0, [*LOG[:at], form, *LOG[at + 1:]])
         self.refused(NoRow, 3, room_of, sample(), 0, [*LOG[:3], ("did", (0, 1), 3)])
@@ -111,7 +114,8 @@ class RoomOfTest(LogCase):
             tuple: ((0, 1), (0, 2), (0, 3), (4, 1), SIGNS, ("terms", "dam", 0, 0), ("terms", "dam", 5, 0)),
         }
         kinds = {
-            "heard": (tuple, int), "over": (int,), "chosen": (str, int), "did": (tuple, int, int), "again": (tuple, int),
+            "heard": (tuple, int), "over": (int,), "chosen": (str, int), "did": (tuple, int, int),
+            "again": (tuple, int),
             "back": (tuple, int), "hand": (None, int, int, int, int), "unhand": (None, int),
             "shelved": (None, int, int, int), "unshelved": (None, int),
         }

@@ -18,7 +18,7 @@ from tests.chances import mixed, other_works, sent
 from tests.models import RoomModel, look_at_room
 from tests.test_lists import some_shelves
 from tests.test_places import atoms
-from tests.things import COMMANDS, POINTS, PanelCase, among, no_signs, others, sample, whole, wrong
+from tests.things import POINTS, PanelCase, among, no_signs, others, sample, whole, wrong
 
 NO_WORKS = wrong(lambda thing: isinstance(thing, Works))
 NO_TIMES = [*wrong(whole(0, 9999)), True, 10000]
@@ -26,8 +26,14 @@ NO_ROOMS = [*wrong(whole(0, 1)), True, 2]
 NO_COMMANDS = wrong(among("open", "fill", "drain"))
 NO_RULES = wrong(among("high", "low", "far", "shut"))
 NO_POINTS = wrong(among(*[row[0] for row in POINTS]))
+
+
+def is_id(thing):
+    return type(thing) is tuple and len(thing) == 2 and whole(0, 999)(thing[0]) and whole(1, 999)(thing[1])
+
+
 NO_IDS = [
-    *wrong(lambda thing: type(thing) is tuple and len(thing) == 2 and whole(0, 999)(thing[0]) and whole(1, 999)(thing[1])),
+    *wrong(is_id),
     [0, 1], (0, True), (True, 1), (0, 0), (0, 1000), (1000, 1), (-1, 1), (0, 1, 2), (0,), "0 1",
 ]
 MOMENTS = (0, 3, 5, 7, 9, 20, 9999)
@@ -353,7 +359,8 @@ class DoTest(PanelCase):
         self.is_just(room.back(time=11, ident=(0, 1)), ("east", ("back", (0, 1))))
         self.is_just(room.again((0, 1), 12), ("east", ("do", (0, 1), "fill")))
         self.is_just(room.state((0, 1), 16), "asked")
-        self.is_just(room.log()[-4:], [("back", (0, 2), 3), ("back", (0, 1), 6), ("back", (0, 1), 11), ("again", (0, 1), 12)])
+        self.is_just(room.log()[-4:], [("back", (0, 2), 3), ("back", (0, 1), 6), ("back", (0, 1), 11),
+                                       ("again", (0, 1), 12)])
         room.hears(answer((0, 1), "refused"), 13)
         self.is_just(room.state((0, 1), 99), "refused")
 
@@ -644,12 +651,6 @@ class EqualTest(PanelCase):
         ("hand", "lv", 5, 4, 30, 5), ("hand", "a", 5, 4, 30, 5), ("shelved", "high", 3, 9, 6),
         ("shelved", "low", 3, 9, 6), ("back", (0, 2), 7), ("heard", ("terms", "dam", 3, 0), 7), ("over", 8),
     ]
-
-    def equal(self, one, other, value):
-        self.assertIs(one == other, value)
-        self.assertIs(one != other, not value)
-        self.assertIs(one.marks() == other.marks(), value)
-        self.assertIs(hash(one.marks()) == hash(other.marks()), value)
 
     def room(self, rows, number=0):
         return room_of(sample(), number, rows)

@@ -42,7 +42,8 @@ relation sum c lv"""
 ROWS = TEXT.split("\n")
 # Words that may stand in the place of any other one: plain and other numbers, names and others.
 WORDS = [
-    "0", "1", "2", "3", "4", "63", "64", "99", "100", "999", "1000", "9999", "10000", "00", "01", "007", "-1", "+1", "1.0",
+    "0", "1", "2", "3", "4", "63", "64", "99", "100", "999", "1000", "9999", "10000", "00", "01", "007", "-1", "+1",
+    "1.0",
     "a", "lv", "zz", "abcdefgh", "abcdefghi", "level", "switch", "above", "below", "same", "sum", "gate", "good", "odd",
     "done", "refused", "Good", "lV", "a1", "point", "rule", "", " ", "True", "None", "open", "north", "term", "do",
 ]
@@ -57,7 +58,8 @@ def is_row(text):
         return word.isdigit() and str(int(word)) == word and low <= int(word) <= high
 
     def names(*places):
-        return all(1 <= len(words[at]) <= 8 and all(sign in "abcdefghijklmnopqrstuvwxyz" for sign in words[at]) for at in places)
+        letters = "abcdefghijklmnopqrstuvwxyz"
+        return all(1 <= len(words[at]) <= 8 and all(sign in letters for sign in words[at]) for at in places)
 
     def lock(at):
         return names(at) and words[at + 1] in ("above", "below") and number(at + 2, 0, 63)
@@ -90,7 +92,8 @@ class WorksTextTest(PanelCase):
             [("v", "x", "switch"), ("lv", "x", "level"), ("a", "x", "level"), ("b", "x", "level"), ("c", "x", "level")],
             commands=[("open", "v", 1, (("v", "below", 1), ("lv", "above", 3)))], relations=[("sum", "a", ("b", "c"))],
         )
-        self.is_just(works_text(works).split("\n")[-2:], ["command open v 1 v below 1 lv above 3", "relation sum a b c"])
+        self.is_just(works_text(works).split("\n")[-2:],
+                     ["command open v 1 v below 1 lv above 3", "relation sum a b c"])
 
     def test_what_is_written_is_read_as_the_same(self):
         for works in [sample(), large_works(), Works(POINTS), *other_works()]:
@@ -101,15 +104,18 @@ class WorksTextTest(PanelCase):
     def test_by_chance(self):
         chance = random.Random(131)
         for _ in range(200):
-            names = chance.sample(["a", "sum", "point", "above", "level", "good", "zzzzzzzz", "rule"], k=chance.randint(3, 8))
+            names = chance.sample(["a", "sum", "point", "above", "level", "good", "zzzzzzzz", "rule"],
+                                  k=chance.randint(3, 8))
             points = [(name, "x", "switch" if at == 0 else "level") for at, name in enumerate(names)]
-            rules = [(name, chance.choice(names), "above", chance.randrange(64), chance.randrange(64), chance.randrange(100),
+            rules = [(name, chance.choice(names), "above", chance.randrange(64), chance.randrange(64),
+                      chance.randrange(100),
                       chance.randint(1, 3)) for name in chance.sample(names, k=3)]
             causes = [(rules[0][0], rules[1][0], chance.randrange(1000)), (rules[1][0], rules[2][0], 0)]
             locks = [(chance.choice(names), "below", chance.randrange(64)) for _ in range(chance.randint(0, 4))]
             commands = [(name, names[0], 1, tuple(locks)) for name in names[:chance.randint(0, 3)]]
             relations = [("gate", names[1], names[0]), ("sum", names[0], tuple(names[1:chance.randint(2, 4)]))]
-            works = Works(points, rules=rules, causes=causes[:chance.randint(0, 2)], commands=commands, relations=relations)
+            works = Works(points, rules=rules, causes=causes[:chance.randint(0, 2)], commands=commands,
+                          relations=relations)
             self.assertEqual(works_of(works_text(works)), works)
 
     def test_no_works(self):
@@ -125,8 +131,10 @@ class WorksOfTest(PanelCase):
         self.refused(NoRow, 0, works_of, "\n")
         for at, row in enumerate(ROWS):
             near = [
-                row + " ", " " + row, row.replace(" ", "  ", 1), "", row.upper(), row.title(), row + "\t", row[1:], row[:-1] + "%",
-                row.split(" ")[0], row + " 1", row + " a", row + " a above 1 b", " ".join(row.split(" ")[:-1]), "wait 5", "po",
+                row + " ", " " + row, row.replace(" ", "  ", 1), "", row.upper(), row.title(), row + "\t", row[1:],
+                row[:-1] + "%",
+                row.split(" ")[0], row + " 1", row + " a", row + " a above 1 b", " ".join(row.split(" ")[:-1]),
+                "wait 5", "po",
             ]
             for other in near:
                 if not is_row(other):
@@ -253,7 +261,8 @@ class LetterTextTest(PanelCase):
         for _, text in LETTERS:
             near.extend([
                 text + " ", " " + text, text.replace(" ", "  ", 1), text + "\n", "\n" + text, text.upper(), text[1:],
-                text.replace(" ", "\n", 1), text + " 1", text + " good", text.rsplit(" ", 1)[0] + " 01", text.replace(" ", ""),
+                text.replace(" ", "\n", 1), text + " 1", text + " good", text.rsplit(" ", 1)[0] + " 01",
+                text.replace(" ", ""),
             ])
         near = [text for text in near if text not in [row[1] for row in LETTERS]]
         self.look_at_arguments(
@@ -291,7 +300,8 @@ class LetterTextTest(PanelCase):
                 self.refused(NoLetter, letter, letter_text, works, letter)
 
     def test_the_largest_in_time(self):
-        for text in ("signs north 1 9" + " 3 lv 4 good" * 1500, "do " * 6000, "7" * 20000, "answer north 0 1 done 0 " + "1" * 9000):
+        for text in ("signs north 1 9" + " 3 lv 4 good" * 1500, "do " * 6000, "7" * 20000,
+                     "answer north 0 1 done 0 " + "1" * 9000):
             self.refused(NoText, text, lambda one: in_time(self, lambda: letter_of(sample(), one)), text)
 
 

@@ -173,6 +173,13 @@ class PanelCase(unittest.TestCase):
         spoil(told)
         self.is_just(ask(), kept)
 
+    def equal(self, one, other, value):
+        """Two objects with marks are equal or not, and so are their marks."""
+        self.assertIs(one == other, value)
+        self.assertIs(one != other, not value)
+        self.assertIs(one.marks() == other.marks(), value)
+        self.assertIs(hash(one.marks()) == hash(other.marks()), value)
+
     def is_just(self, told, value):
         """What is told is the value, of the value's very kind, at most three deep."""
         self.assertEqual(told, value)
