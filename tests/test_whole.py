@@ -27,7 +27,7 @@ from panelwatch.trends import Trend
 from panelwatch.works import Works
 from tests import deeds
 from tests.models import look_at_plant
-from tests.things import CAUSES, COMMANDS, POINTS, RELATIONS, RULES, PanelCase, sample, spoil
+from tests.things import CAUSES, COMMANDS, POINTS, RELATIONS, RULES, PanelCase, others, sample, spoil
 
 REFUSALS = (PanelError, Absent, Barred)
 SIGNS = ("signs", "north", 1, 9, ((3, "lv", 46, "good"), (7, "v", 0, "odd")))
@@ -302,6 +302,52 @@ class AskedTwiceTest(PanelCase):
             ahead = copy.deepcopy(told_of(told))
             spoil([kept[name] for name in kept])
             self.assertEqual(told_of(told), ahead)
+
+
+class AnyThingTest(PanelCase):
+    """Any thing may stand in the place of each argument: it is refused as the document tells, if it is refused."""
+
+    PLAIN = (works.is_beyond, works.lock_holds, works.relation_holds)
+
+    def things(self):
+        chance = random.Random(7)
+        alone = others()
+        mixed = [chance.choice((list, tuple))(chance.choices(alone, k=chance.randint(0, 4))) for _ in range(200)]
+        return [*alone, *mixed]
+
+    def told_or_refused(self, call, named):
+        """Whether a thing was told: any error but the three families' goes on, and fails the test."""
+        try:
+            call(**named)
+        except REFUSALS:
+            return False
+        return True
+
+    def test_functions(self):
+        chance, things = random.Random(8), self.things()
+        for call, named in asks_of_functions():
+            if call in self.PLAIN:
+                continue
+            with self.subTest(call=call.__name__):
+                for name in named:
+                    for thing in things:
+                        self.told_or_refused(call, {**named, name: thing})
+                for _ in range(100):
+                    picked = {name: chance.choice((named[name], chance.choice(things))) for name in named}
+                    self.told_or_refused(call, picked)
+
+    def test_methods(self):
+        things = self.things()
+        for made, methods in calls_of_methods():
+            for method, named in methods.items():
+                with self.subTest(method=method):
+                    one, kept = made(), made()
+                    for name in named:
+                        for thing in things:
+                            if self.told_or_refused(getattr(one, method), {**named, name: thing}):
+                                one = made()
+                            elif not isinstance(one, (Desk, PlainRoom)):
+                                self.assertEqual(one, kept)
 
 
 class OtherNamesTest(PanelCase):
