@@ -6,7 +6,7 @@ import unittest
 from panelwatch.deedtexts import deed_of, deed_text
 from panelwatch.desk import Desk
 from panelwatch.errors import (
-    Absent, Barred, Down, NoCommand, NoLine, NoList, NoNumber, NoPlace, NoPoint, NoRule, NotNow, NotOnRoad,
+    Absent, Barred, Down, NoCommand, NoHistory, NoLine, NoList, NoNumber, NoPlace, NoPoint, NoRule, NotNow, NotOnRoad,
     NotThere, NoTime, NoWorks, NoWorth, PanelError, Stands, TooMany,
 )
 from panelwatch.falsesigns import picture_at, suspects
@@ -384,6 +384,18 @@ class AskTest(PanelCase):
         self.is_just(desk.say("doubt 0 1"), ["a 6, c 8", "a 6, d 7", "b 5, c 8", "b 5, d 7"])
         desk = desk_that_said(*lines, "change e 1 good", "send x", "come 1", works=works)
         self.is_just(desk.say("doubt 0 1"), [])
+
+    def test_doubt_of_more_than_a_hundred_signs(self):
+        desk = Desk(sample())
+        for at in range(1, 102):
+            desk.say_all(["wait 1", f"change lv {at % 64} good"])
+            if at % 10 == 0 or at == 101:
+                desk.say_all(["send north", f"come {2 * ((at + 9) // 10) - 1}"])
+            if at == 100:
+                self.is_just(desk.say("doubt 0 100"), ["none"])
+        self.assertEqual(len(desk.plant().room(0).hearing().history("lv")), 101)
+        with self.assertRaises(NoHistory):
+            desk.say("doubt 0 100")
 
     def test_a_room_that_fell_is_told_as_it_was_then(self):
         desk = desk_that_said("wait 3", "change lv 46 good", "send north", "come 1", "choose 0 fill", "fall 0")

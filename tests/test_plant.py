@@ -5,8 +5,8 @@ import random
 import unittest
 
 from panelwatch.errors import (
-    Down, Locked, NoCommand, NoId, NoMark, NoNumber, NoPlace, NoPoint, NoRoom, NoRule, NoTime, NotNow, NotOnRoad,
-    NotThere, NoWorks, NoWorth, Stands, TooMany,
+    Down, Locked, NoCommand, NoId, NoLetter, NoMark, NoNumber, NoPlace, NoPoint, NoRoom, NoRule, NoTime, NotNow,
+    NotOnRoad, NotThere, NoWorks, NoWorth, Stands, TooMany,
 )
 from panelwatch.places import Place
 from panelwatch.plant import Plant
@@ -143,6 +143,13 @@ class DeedsTest(PanelCase):
         rows = [("change", "lv", at + 1, "good") for at in range(12)]
         plant = row_of(*rows, ("send", "north"), ("come", 1))
         self.assertEqual(len(plant.room(0).hearing().letters()[0][4]), 12)
+
+    def test_more_signs_than_the_road_bears(self):
+        plant = row_of(*[("change", "lv", at + 1, "good") for at in range(13)])
+        ahead = look(plant)
+        with self.assertRaises(NoLetter):
+            plant.send("north")
+        self.assertEqual(look(plant), ahead)
 
     def test_come_to_a_room(self):
         plant = row_of(("wait", 2), ("send", "dam"), ("send", "dam"), ("double", 1))
